@@ -62,7 +62,7 @@ func tagOf(set map[int]bool) uint16 {
 	return uint16(n)
 }
 
-// slowMay is P15.1: how many of its parts may be.
+// slowMay is P15.1: how many of its parts may be, and how many domains its ends are.
 func slowMay(x api.Redist) bool {
 	may := 0
 	for _, part := range []bool{isOne(x.From), isOne(x.To), filter.May(x.Filter), trans.May(x.Table), x.Seed > -1, x.Seed < top} {
@@ -70,7 +70,8 @@ func slowMay(x api.Redist) bool {
 			may++
 		}
 	}
-	return may == 6
+	ends := map[int]bool{x.From: true, x.To: true}
+	return may == 6 && len(ends) == 2
 }
 
 // slowPass is P15.2: all that stands against a route is held against each other, and the least error but none is told.
@@ -190,19 +191,35 @@ func wantDefault(t *testing.T, domain, metric int, known bool, want api.Route, i
 	}
 }
 
-// P15.1: From and To are domains, also the same one, and no other numbers.
+// P15.1: From and To are domains, and no other numbers.
 func TestMayDomains(t *testing.T) {
 	for _, from := range numbers {
 		for _, to := range numbers {
 			x := oneTo()
 			x.From, x.To = from, to
-			wantMay(t, x, from >= 0 && from <= 15 && to >= 0 && to <= 15)
+			wantMay(t, x, from >= 0 && from <= 15 && to >= 0 && to <= 15 && from != to)
 		}
 	}
 	for domain := -20; domain < 40; domain++ {
-		for _, x := range []api.Redist{{From: domain, To: 3}, {From: 3, To: domain}, {From: domain, To: domain}} {
-			wantMay(t, x, domain >= 0 && domain <= 15)
+		for _, x := range []api.Redist{{From: domain, To: 3}, {From: 3, To: domain}} {
+			wantMay(t, x, domain >= 0 && domain <= 15 && domain != 3)
 		}
+	}
+}
+
+// P15.1: From and To are two domains: every two of them, and none with itself, whatever else the rule has.
+func TestMayTwo(t *testing.T) {
+	for from := range 16 {
+		for to := range 16 {
+			for _, x := range []api.Redist{{}, {Filter: rules(1), Seed: 5}, {Filter: rules(32), Table: bands(32), Seed: top - 1}} {
+				x.From, x.To = from, to
+				wantMay(t, x, from != to)
+			}
+		}
+	}
+	for _, n := range numbers {
+		wantMay(t, api.Redist{From: n, To: n}, false)
+		wantMay(t, api.Redist{From: n, To: n, Filter: rules(1), Table: bands(3), Seed: 5}, false)
 	}
 }
 
@@ -212,7 +229,7 @@ func TestMaySeed(t *testing.T) {
 		x := oneTo()
 		x.Seed = seed
 		wantMay(t, x, want)
-		wantMay(t, api.Redist{Seed: seed}, want)
+		wantMay(t, api.Redist{To: 1, Seed: seed}, want)
 	}
 }
 
@@ -265,10 +282,11 @@ func TestMayTable(t *testing.T) {
 func TestMayParts(t *testing.T) {
 	x := api.Redist{From: 15, To: 0, Filter: rules(32), Table: bands(32), Seed: top - 1}
 	wantMay(t, x, true)
-	wantMay(t, api.Redist{}, true)
+	wantMay(t, api.Redist{To: 1}, true)
 	for part, spoil := range []func(x *api.Redist){
 		func(x *api.Redist) { x.From = 16 },
 		func(x *api.Redist) { x.To = -1 },
+		func(x *api.Redist) { x.To = x.From },
 		func(x *api.Redist) { x.Filter = rules(33) },
 		func(x *api.Redist) { x.Filter[31].Le = 33 },
 		func(x *api.Redist) { x.Table = bands(33) },
@@ -312,8 +330,15 @@ func TestPassDomains(t *testing.T) {
 				r := api.Route{Prefix: tenOne, Domain: from, Distance: 1, Metric: 1, Next: 9, Tag: tag}
 				want, e := slowPass(x, r)
 				wantPass(t, x, r, want, e)
-				if set := setOf(tag); (e == api.ErrLoop) != (set[from] || set[to]) {
-					t.Errorf("from %d to %d with %x: %d", from, to, tag, e)
+				errno := api.OK
+				switch set := setOf(tag); {
+				case from == to:
+					errno = api.ErrArg
+				case set[from] || set[to]:
+					errno = api.ErrLoop
+				}
+				if e != errno {
+					t.Errorf("from %d to %d with %x: %d, want %d", from, to, tag, e, errno)
 				}
 			}
 		}
@@ -345,18 +370,19 @@ func TestPassLoop(t *testing.T) {
 	}
 }
 
-// P15.2: From that is To is not barred: only the tag can stand against a route of it.
+// P15.2, R2: by a rule from a domain to itself no route comes, and ErrArg is told first, whatever else stands against it.
 func TestPassSame(t *testing.T) {
 	for domain := range 16 {
-		x := api.Redist{From: domain, To: domain, Filter: rules(1), Seed: 5}
-		r := api.Route{Prefix: ten, Domain: domain, Distance: 7, Metric: 9, Next: 4}
 		own := uint16(1) << domain
-		wantMay(t, x, true)
-		wantPass(t, x, r, api.Route{Prefix: ten, Domain: domain, Distance: 7, Metric: 5, Tag: own}, api.OK)
-		r.Tag = ^own
-		wantPass(t, x, r, api.Route{Prefix: ten, Domain: domain, Distance: 7, Metric: 5, Tag: 0xffff}, api.OK)
-		r.Tag = own
-		wantError(t, x, r, api.ErrLoop)
+		for _, tag := range []uint16{0, own, ^own, 0xffff} {
+			r := api.Route{Prefix: ten, Domain: domain, Distance: 7, Metric: 9, Next: 4, Tag: tag}
+			wantError(t, api.Redist{From: domain, To: domain, Filter: rules(1), Seed: 5}, r, api.ErrArg)
+			wantError(t, api.Redist{From: domain, To: domain, Filter: rules(1), Table: bands(3), Seed: 5}, r, api.ErrArg)
+			// No metric is told.
+			wantError(t, api.Redist{From: domain, To: domain, Filter: rules(1)}, r, api.ErrArg)
+			// The filter lets nothing through.
+			wantError(t, api.Redist{From: domain, To: domain, Seed: 5}, r, api.ErrArg)
+		}
 	}
 }
 
@@ -475,6 +501,7 @@ type fault struct {
 func faults() []fault {
 	return []fault{
 		{api.ErrArg, func(x *api.Redist, r *api.Route) { x.To = 16 }},
+		{api.ErrArg, func(x *api.Redist, r *api.Route) { x.To = x.From }},
 		{api.ErrArg, func(x *api.Redist, r *api.Route) { x.Seed = -1 }},
 		{api.ErrArg, func(x *api.Redist, r *api.Route) { x.Filter = append(x.Filter, rules(32)...) }},
 		{api.ErrArg, func(x *api.Redist, r *api.Route) { x.Filter = append(x.Filter, api.Rule{Permit: true, Le: 33}) }},
@@ -584,11 +611,12 @@ func wantChain(t *testing.T, chain []int) {
 				errno = api.ErrLoop
 			}
 			wantAccept(t, to, r, errno)
-			if to != r.Domain {
-				_, e := Pass(api.Redist{From: r.Domain, To: to, Filter: rules(1), Seed: 4}, r)
-				if e != errno {
-					t.Errorf("along %v, at %d, to %d: %d, want %d", chain, depth, to, e, errno)
-				}
+			if to == r.Domain {
+				errno = api.ErrArg
+			}
+			_, e := Pass(api.Redist{From: r.Domain, To: to, Filter: rules(1), Seed: 4}, r)
+			if e != errno {
+				t.Errorf("along %v, at %d, to %d: %d, want %d", chain, depth, to, e, errno)
 			}
 		}
 		if depth+1 == len(chain) {
@@ -633,11 +661,8 @@ func TestWander(t *testing.T) {
 		was := []int{r.Domain}
 		for range 400 {
 			to := c.next(16)
-			if to == r.Domain {
-				continue
-			}
 			next, e := Pass(api.Redist{From: r.Domain, To: to, Filter: rules(1), Seed: 1}, r)
-			if (e == api.ErrLoop) != slices.Contains(was, to) {
+			if (e == api.OK) == slices.Contains(was, to) {
 				t.Fatalf("was at %v, to %d: %d", was, to, e)
 			}
 			if e == api.OK {
